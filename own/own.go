@@ -1,0 +1,25 @@
+// Package own puts values of package api into memory of their own: what is
+// handed to a layer isn't kept, and what a layer answers is new memory.
+package own
+
+import (
+	"slices"
+
+	"comitia/api"
+)
+
+// Block is a block that shares no list with b.
+func Block(b api.Block) api.Block {
+	b.Justify = Cert(b.Justify)
+	b.Batch = slices.Clone(b.Batch)
+	return b
+}
+
+// Cert is a certificate that shares no list with c.
+func Cert(c api.Cert) api.Cert {
+	c.Sigs = slices.Clone(c.Sigs)
+	for i := range c.Sigs {
+		c.Sigs[i].Tags = slices.Clone(c.Sigs[i].Tags)
+	}
+	return c
+}
