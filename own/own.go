@@ -18,8 +18,14 @@ func Block(b api.Block) api.Block {
 // Cert is a certificate that shares no list with c.
 func Cert(c api.Cert) api.Cert {
 	c.Sigs = slices.Clone(c.Sigs)
-	for i := range c.Sigs {
-		c.Sigs[i].Tags = slices.Clone(c.Sigs[i].Tags)
+	for i, s := range c.Sigs {
+		c.Sigs[i] = Sig(s)
 	}
 	return c
+}
+
+// Sig is a signature that shares no list with s.
+func Sig(s api.Sig) api.Sig {
+	s.Tags = slices.Clone(s.Tags)
+	return s
 }

@@ -60,6 +60,22 @@ func TestCert(t *testing.T) {
 	same(t, c, full().Justify)
 }
 
+func TestSig(t *testing.T) {
+	s := full().Justify.Sigs[0]
+	copied := own.Sig(s)
+	same(t, copied, full().Justify.Sigs[0])
+	same(t, s, full().Justify.Sigs[0])
+	clear(s.Tags[:cap(s.Tags)])
+	same(t, copied, full().Justify.Sigs[0])
+	s = full().Justify.Sigs[0]
+	copied = own.Sig(s)
+	clear(copied.Tags[:cap(copied.Tags)])
+	same(t, s, full().Justify.Sigs[0])
+	copied = own.Sig(s)
+	copied.Tags = append(copied.Tags, "spoilt")
+	same(t, s.Tags[:3][2], "")
+}
+
 // The spare room of what is handed in is left, too.
 func TestSpareRoom(t *testing.T) {
 	b := full()
@@ -76,4 +92,5 @@ func TestSpareRoom(t *testing.T) {
 func TestZero(t *testing.T) {
 	same(t, own.Block(api.Block{}), api.Block{})
 	same(t, own.Cert(api.Cert{}), api.Cert{})
+	same(t, own.Sig(api.Sig{}), api.Sig{})
 }
